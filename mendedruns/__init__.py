@@ -1,0 +1,1 @@
+"""Transaction programs whose runs are mended instead of repeated."""
