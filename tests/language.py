@@ -35,14 +35,32 @@ BARRED_WORDS = re.compile(
     r"|NamedTuple|TypedDict|TYPE_CHECKING|abstractmethod)\b|dataclass|overload|contextmanager")
 
 
+SUMMING = ("sum", "min", "max", "sorted", "any", "all")
+ITERATED_AT_ONCE = ("zip", "enumerate", "reversed", "range")
+VIEWS = ("items", "keys", "values")
+
+
 def breaches(source, own=frozenset()):
     """Return the list of what is wrong with a file of a package with these own methods, each with its rule."""
     tree = ast.parse(source)
+    parents = {part: node for node in ast.walk(tree) for part in ast.iter_child_nodes(node)}
     found = breaches_of_text(source) + breaches_of_module(tree)
     for node in ast.walk(tree):
-        rules = [rule for rule, broken in node_rules(node, own) if broken]
+        rules = [rule for rule, broken in node_rules(node, own) + place_rules(node, parents.get(node)) if broken]
         found += ["%s, line %d" % (rule, getattr(node, "lineno", 0)) for rule in rules]
     return found
+
+
+def breaches_of_names(sources):
+    """Return the list of the names that are a method in one class of a package and something else in another."""
+    classes = [node for source in sources for node in ast.walk(ast.parse(source)) if isinstance(node, ast.ClassDef)]
+    found = [node for held in classes for node in held.body if isinstance(node, ast.FunctionDef)]
+    properties = set(node.name for node in found if node.decorator_list)
+    methods = set(node.name for node in found if not node.decorator_list)
+    assigned = set(node.attr for source in sources for node in ast.walk(ast.parse(source))
+                   if isinstance(node, ast.Attribute) and isinstance(node.ctx, (ast.Store, ast.Del)))
+    unlike = methods & assigned | properties & assigned | methods & properties | properties & BUILTIN_METHODS
+    return ["L18, %s is several things" % name for name in sorted(unlike)]
 
 
 def own_methods(source):
@@ -77,6 +95,8 @@ def breaches_of_module(tree):
             calls = [part for part in ast.walk(node.value) if isinstance(part, ast.Call)]
             if calls or len(node.targets) != 1 or not isinstance(node.targets[0], ast.Name):
                 found.append("L3, line %d" % node.lineno)
+            if any(isinstance(part, (ast.List, ast.Dict)) and part != node.value for part in ast.walk(node.value)):
+                found.append("L15, line %d" % node.lineno)
         bound += bound_names(node)
     found += ["L15, %s is bound twice" % name for name in sorted(set(bound)) if bound.count(name) > 1]
     return found + ["L15, %s has two meanings" % name for name in sorted(hidden_names(tree))]
@@ -133,6 +153,32 @@ def node_rules(node, own):
     if isinstance(node, ast.Attribute):
         return [("L8", node.attr.startswith("__") and node.attr != "__init__")]
     return []
+
+
+def place_rules(node, parent):
+    """Return tuples of a rule and whether this node breaks it where it stands."""
+    if isinstance(node, ast.Raise):
+        made = isinstance(node.exc, ast.Call) and isinstance(node.exc.func, ast.Name)
+        return [("L19", node.exc is not None and not made)]
+    if is_set(node):
+        stored = isinstance(parent, ast.Assign) and isinstance(parent.targets[0], ast.Name)
+        return [("L24", not (stored or isinstance(parent, (ast.Compare, ast.BinOp)) or is_call(parent, ("sorted", "len"))))]
+    if is_call(node, ITERATED_AT_ONCE) or isinstance(node, ast.Call) and getattr(node.func, "attr", None) in VIEWS:
+        return [("L23", not isinstance(parent, (ast.For, ast.comprehension, ast.Call, ast.YieldFrom)))]
+    if isinstance(node, ast.GeneratorExp):
+        return [("L5", is_call(parent, SUMMING))]
+    if isinstance(node, ast.Call) and getattr(node.func, "attr", None) == "sort":
+        return [("L25", True)]
+    return []
+
+
+def is_call(node, names):
+    """Return whether a node calls a function with one of these names."""
+    return isinstance(node, ast.Call) and isinstance(node.func, ast.Name) and node.func.id in names
+
+
+def is_set(node):
+    return isinstance(node, (ast.Set, ast.SetComp)) or is_call(node, ("set", "frozenset"))
 
 
 def function_rules(node):
