@@ -22,7 +22,7 @@ class Memory:
             value, source = self.changes.get(word, (self.before.get(word), "store"))
             return ("" if value is None else value, source)
         found = self.keys_with(word)
-        return (found, tuple([self.look_up(("key", key))[1] for key in found]))
+        return (found, tuple([self.changes[key][1] if key in self.changes else "store" for key in found]))
 
     def keys_with(self, prefix):
         """Return the ascending tuple of the keys that are there and begin with a prefix."""
@@ -63,11 +63,8 @@ class Memory:
 
 def beginning_with(ordered, prefix):
     """Return the list of those of the ascending keys that begin with a prefix."""
-    low = first_from(ordered, prefix)
-    high = low
-    while high < len(ordered) and ordered[high].startswith(prefix):
-        high += 1
-    return ordered[low:high]
+    # The sign ~ stands behind all letters and digits.
+    return ordered[first_from(ordered, prefix):first_from(ordered, prefix + "~")]
 
 
 def first_from(ordered, key):

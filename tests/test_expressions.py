@@ -2,20 +2,13 @@ import unittest
 
 from mendedruns.errors import InvalidExpression, InvalidState
 from mendedruns.expressions import evaluate, names_in
+from tests.building import FAILING, LARGEST
 from tests.strange import STRANGE
 
-LARGEST = 10 ** 60 - 1
 DEEPEST = (((((),),),),)
 TWO_PART_WORDS = ["add", "subtract", "multiply", "divide", "less", "equal", "join", "item"]
 INTEGER_WORDS = ["add", "subtract", "multiply", "divide", "less"]
 ONE = ("value", 1)
-FAILING = {
-    "name": ("name", "none"),
-    "zero": ("divide", ("value", 1), ("value", 0)),
-    "kind": ("add", ("value", "a"), ("value", 1)),
-    "range": ("item", ("value", ()), ("value", 0)),
-    "size": ("add", ("value", LARGEST), ("value", 1)),
-}
 
 
 def form(word, *values):

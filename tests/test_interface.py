@@ -18,7 +18,14 @@ FUNCTIONS = {
     "running": {"run": RUN, "steps_of": RUN},
     "mending": {"mend": MEND, "count_done": MEND, "apply_effect": "(state, trace)"},
     "papers": {"paper": MEND, "first_wrong": "(program, old, state, lines, *, arguments=None)"},
+    "lineage": {
+        "lineage": "(program, state, place, *, arguments=None)", "resting_places": "(program, state, key, *, arguments=None)",
+    },
+    "desks": {"preview": "(desk, names)"},
+    "certificates": {"certificate": "(desk)", "first_wrong_commit": "(state, value, *, constraints=())"},
 }
+NAMED = "(self, name)"
+BEGIN = "(self, name, program, *, arguments=None)"
 CLASSES = {
     "running": {"Trace": {
         "steps": None, "ending": None, "effect": None, "reads": None, "prefixes": None, "touched": None,
@@ -26,6 +33,17 @@ CLASSES = {
     }},
     "mending": {"Mended": {
         "__init__": "(self, trace, marks)", "trace": None, "kept": None, "done": None, "marks": None, "__eq__": 1,
+    }},
+    "stores": {"Store": {
+        "__init__": "(self, state)", "moment": None, "kept": None, "now": None, "commit": "(self, trace)",
+        "drop": "(self, moment)", "changed": "(self, key)", "__getitem__": 1, "__contains__": 1, "__eq__": 1, "__len__": 1,
+    }},
+    "desks": {"Desk": {
+        "__init__": "(self, state, *, constraints=())", "begin": BEGIN, "advance": "(self, name, count=1)", "refresh": NAMED,
+        "commit": NAMED, "commit_all": "(self, names)", "abort": NAMED, "active": None, "ended": None, "moment": None,
+        "state": "(self, moment=None)", "trace_of": NAMED, "begun": NAMED, "done_by": NAMED, "committed": NAMED,
+        "recorded": NAMED, "watch": BEGIN, "unwatch": NAMED, "views": None, "tidy": "(self)", "trial": "(self)",
+        "copy": "(self)", "__eq__": 1, "__len__": 1,
     }},
 }
 
