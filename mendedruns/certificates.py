@@ -1,7 +1,6 @@
 """Certificates: what shows that a history of commits is right."""
 
-from mendedruns.desks import Desk
-from mendedruns.errors import InvalidState
+from mendedruns.desks import Desk, check_desk
 from mendedruns.held import pairs_of
 from mendedruns.programs import first_wrong_place
 from mendedruns.values import are_equal, is_name, is_value, kind_of
@@ -11,8 +10,7 @@ PARTS_OF_ENTRY = 5
 
 def certificate(desk):
     """Return the certificate of all commits at a desk."""
-    if not isinstance(desk, Desk):
-        raise InvalidState(desk)
+    check_desk(desk)
     return [entry_of(desk, name, ending) for name, ending in desk.ended.items()]
 
 

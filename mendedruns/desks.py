@@ -226,12 +226,17 @@ class Trial:
 
 def preview(desk, names):
     """Return a tuple of what committing the runs would return, the state afterwards, and the number of steps."""
-    if not isinstance(desk, Desk):
-        raise InvalidState(desk)
+    check_desk(desk)
     tried = desk.copy()
     endings = tried.commit_all(names)
     did = sum([tried.committed(name)[2] - desk.done_by(name) for name in names])
     return (endings, tried.state(), did)
+
+
+def check_desk(desk):
+    """Raise an error if something is no desk."""
+    if not isinstance(desk, Desk):
+        raise InvalidState(desk)
 
 
 def check_constraints(constraints):
@@ -245,7 +250,7 @@ def check_constraints(constraints):
 def first_broken(constraints, state):
     """Return the index of the first constraint that is broken at a state, or None."""
     for index, program in enumerate(constraints):
-        records, ending, effect = performed(program, state, None, {})
+        records, ending, changes = performed(program, state, None, {})
         if ending[0] == "refused":
             return index
     return None

@@ -12,7 +12,7 @@ def lineage(program, state, place, *, arguments=None):
     check_program(program)
     check_state(state)
     check_arguments(arguments)
-    records, ending, effect = performed(program, state, arguments, {})
+    records, ending, changes = performed(program, state, arguments, {})
     if not is_step_place(place) or place not in {step[0]: True for step, sources, mark, touched in records}:
         return None
     roots = roots_of(records, place)
@@ -25,7 +25,7 @@ def resting_places(program, state, key, *, arguments=None):
     check_state(state)
     check_key(key)
     check_arguments(arguments)
-    records, ending, effect = performed(program, state, arguments, {})
+    records, ending, changes = performed(program, state, arguments, {})
     resting = {}
     for (place, inputs, outcome), sources, mark, touched in records:
         origins = source_places(inputs, sources)

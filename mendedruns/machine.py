@@ -7,15 +7,17 @@ MOST_STEPS = 1000
 
 
 def performed(program, state, arguments, old):
-    """Return a tuple (records, ending, effect) of the run of a program that was checked.
+    """Return a tuple (records, ending, changes) of the run of a program that was checked.
 
     old is a dict from places to the steps of an earlier run of the program. Each record is a
     tuple (step, sources, mark, key) with the key that the step wrote or deleted, or None.
+    changes is the effect of the run, with a tuple (value, place) under each key that holds the
+    place of the step, too.
     """
     machine = Machine(program, Memory(state, arguments), old)
     ending = ending_of(machine.run_block(program, ()))
-    effect = machine.memory.effect_now() if ending[0] == "returned" else {}
-    return (machine.records, ending, effect)
+    changes = machine.memory.changes if ending[0] == "returned" else {}
+    return (machine.records, ending, changes)
 
 
 def ending_of(halt):

@@ -56,10 +56,6 @@ class Memory:
         self.variables = variables
         return left
 
-    def effect_now(self):
-        """Return the dict of the last writes and deletions."""
-        return {key: value for key, (value, source) in self.changes.items()}
-
 
 def beginning_with(ordered, prefix):
     """Return the list of those of the ascending keys that begin with a prefix."""

@@ -10,7 +10,7 @@ PARTS_OF_LINE = ("place", "inputs", "sources", "outcome", "mark")
 def paper(program, old, state, *, arguments=None):
     """Return the list of the lines of the paper on mending the old trace to a state."""
     check_mending(program, old, state, arguments)
-    records, ending, effect = performed(program, state, arguments, steps_by_place(old))
+    records, ending, changes = performed(program, state, arguments, steps_by_place(old))
     return [(place, inputs, sources, outcome, mark) for (place, inputs, outcome), sources, mark, key in records]
 
 

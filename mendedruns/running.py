@@ -10,11 +10,14 @@ from mendedruns.values import are_equal, kind_of
 class Trace:
     """The first steps of a run, or all of them with the ending and the effect of the run."""
 
-    def __init__(self, taken, hits, closing, changes):
+    def __init__(self, taken, sources, hits, closing, changes):
         self.taken = taken
+        # For each step the tuple of the sources of its inputs.
+        self.sources = sources
         # For each step the key that it wrote or deleted, or None.
         self.hits = hits
         self.closing = closing
+        # From the keys of the effect to tuples of the value, None if deleted, and the place of the step that did it.
         self.changes = changes
         self.numbers = {step[0]: number for number, step in enumerate(taken)}
 
@@ -31,7 +34,7 @@ class Trace:
     @property
     def effect(self):
         """The dict of the last writes and deletions, None being the value of a deleted key."""
-        return dict(self.changes)
+        return {key: value for key, (value, place) in self.changes.items()}
 
     @property
     def reads(self):
@@ -61,11 +64,11 @@ class Trace:
         check_count(count)
         if count >= len(self.taken):
             return self
-        return Trace(self.taken[:count], self.hits[:count], None, {})
+        return Trace(self.taken[:count], self.sources[:count], self.hits[:count], None, {})
 
     def parts(self):
         """Return a tuple of all that is compared."""
-        return (tuple(self.taken), self.closing, tuple(sorted(self.changes.items())))
+        return (tuple(self.taken), self.closing, tuple(sorted(self.effect.items())))
 
     def __contains__(self, place):
         return is_step_place(place) and place in self.numbers
@@ -77,7 +80,7 @@ class Trace:
         return len(self.taken)
 
     def __repr__(self):
-        return f"Trace({self.taken!r}, {self.closing!r}, {dict(sorted(self.changes.items()))!r})"
+        return f"Trace({self.taken!r}, {self.closing!r}, {dict(sorted(self.effect.items()))!r})"
 
 
 def run(program, state, *, arguments=None):
@@ -97,14 +100,28 @@ def steps_of(program, state, *, arguments=None):
 
 def trace_of_run(result):
     """Return the trace of a run that was performed with this result."""
-    records, ending, effect = result
-    return Trace([record[0] for record in records], [record[3] for record in records], ending, effect)
+    records, ending, changes = result
+    taken = [record[0] for record in records]
+    sources = [record[1] for record in records]
+    return Trace(taken, sources, [record[3] for record in records], ending, changes)
 
 
 def check_trace(trace):
     """Raise an error if something is no trace."""
     if not isinstance(trace, Trace):
         raise InvalidTrace(trace)
+
+
+def sees_any(trace, keys):
+    """Return whether a trace has read some of these keys, or looked for what one of them begins with."""
+    looked = {key: True for key in trace.reads}
+    prefixes = trace.prefixes
+    return any([key in looked or begins_with_any(key, prefixes) for key in keys])
+
+
+def begins_with_any(key, prefixes):
+    """Return whether a key begins with one of some prefixes."""
+    return any([key.startswith(prefix) for prefix in prefixes])
 
 
 def is_step_place(place):

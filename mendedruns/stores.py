@@ -1,7 +1,7 @@
 """Stores: a state for each moment, of which the early ones can be dropped."""
 
 from mendedruns.checks import check_count, check_key, check_state
-from mendedruns.errors import UnknownMoment
+from mendedruns.errors import InvalidState, UnknownMoment
 from mendedruns.mending import changed_state
 from mendedruns.running import check_trace
 from mendedruns.values import kind_of
@@ -95,3 +95,9 @@ class Store:
 
     def __len__(self):
         return len(self.latest)
+
+
+def check_store(store):
+    """Raise an error if something is no store."""
+    if not isinstance(store, Store):
+        raise InvalidState(store)

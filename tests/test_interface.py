@@ -23,6 +23,16 @@ FUNCTIONS = {
     },
     "desks": {"preview": "(desk, names)"},
     "certificates": {"certificate": "(desk)", "first_wrong_commit": "(state, value, *, constraints=())"},
+    "explaining": {"reasons": "(desk, key)", "first_wrong_reason": "(desk, key, value)"},
+    "commuting": {
+        "serial_result": "(state, *runs)", "commute": "(state, first, second)", "are_independent": "(one, other)",
+        "order_result": "(state, runs, order)",
+    },
+    "history": {
+        "trace_at": "(store, program, moment, *, arguments=None)", "changing_moments": "(store, program, *, arguments=None)",
+        "first_change": "(store, program, old, *, arguments=None)",
+    },
+    "orders": {"total_done": "(desk, names)", "best_order": "(desk)"},
 }
 NAMED = "(self, name)"
 BEGIN = "(self, name, program, *, arguments=None)"

@@ -200,7 +200,7 @@ class MarksTest(Case):
         whole = run(program, {}, arguments={"a": "x"})
         place, inputs, outcome = whole.steps[0]
         for given in (inputs[:1], inputs + ((("key", "y"), 1),), ()):
-            old = Trace([(place, given, ("refused", "kind"))], [None], None, {})
+            old = Trace([(place, given, ("refused", "kind"))], [(None,) * len(given)], [None], None, {})
             self.assertEqual(mend(program, old, {}, arguments={"a": "x"}).marks, [("done", min(len(given), 2))])
 
 
