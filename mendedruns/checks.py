@@ -1,6 +1,6 @@
 """Raises the errors for arguments of a wrong form."""
 
-from mendedruns.errors import InvalidArguments, InvalidCount, InvalidName, InvalidState
+from mendedruns.errors import InvalidArguments, InvalidCount, InvalidName, InvalidState, ParseError
 from mendedruns.values import is_key, is_name, is_state, is_variables, kind_of
 
 
@@ -26,6 +26,12 @@ def check_name(name):
     """Raise an error if something is no name."""
     if not is_name(name):
         raise InvalidName(name)
+
+
+def check_string(text):
+    """Raise an error if something is no str, of any length and characters."""
+    if kind_of(text) != "text":
+        raise ParseError(text)
 
 
 def check_key(key):

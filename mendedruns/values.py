@@ -1,8 +1,10 @@
 """Values, keys, names and states, and when two things are equal."""
 
 LETTERS = "abcdefghijklmnopqrstuvwxyz"
+DIGITS = "0123456789"
 LETTERS_AND_DIGITS = "abcdefghijklmnopqrstuvwxyz0123456789"
 INTEGER_BOUND = 10 ** 60
+MOST_DIGITS = 60
 LONGEST_TEXT = 60
 LONGEST_NAME = 12
 DEEPEST_LIST = 5

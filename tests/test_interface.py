@@ -33,6 +33,11 @@ FUNCTIONS = {
         "first_change": "(store, program, old, *, arguments=None)",
     },
     "orders": {"total_done": "(desk, names)", "best_order": "(desk)"},
+    "logs": {"replay": "(state, entries)"},
+    "journals": {"check_number": "(text)", "journal": "(store)", "recover": "(text)"},
+    "texts": {
+        "format_value": "(value)", "format_program": "(program)", "parse_value": "(text)", "parse_program": "(text)",
+    },
 }
 NAMED = "(self, name)"
 BEGIN = "(self, name, program, *, arguments=None)"
@@ -55,6 +60,11 @@ CLASSES = {
         "recorded": NAMED, "watch": BEGIN, "unwatch": NAMED, "views": None, "tidy": "(self)", "trial": "(self)",
         "copy": "(self)", "__eq__": 1, "__len__": 1,
     }},
+    "logs": {"Log": {
+        "__init__": "(self, state)", "perform": "(self, entry)", "desk": "(self)", "entries": None, "start": None,
+        "undo": "(self)", "__eq__": 1, "__len__": 1,
+    }},
+    "console": {"Console": {"__init__": "(self)", "execute": "(self, line)", "__len__": 1}},
 }
 
 
